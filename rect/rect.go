@@ -63,13 +63,19 @@ func join(h, r api.Rect) api.Rect {
 
 // Move is a rectangle that is moved.
 func Move(r api.Rect, dx, dy int) (api.Rect, api.Errno) {
-	// A sum that wraps round needs no check of its own: it lands at the other end of int, far out of bounds.
+	// Of an r that may be, no sum wraps round into bounds; but regions are moved by this, too, and theirs may be anywhere.
+	if wraps(r.X0, dx) || wraps(r.X1, dx) || wraps(r.Y0, dy) || wraps(r.Y1, dy) {
+		return api.Rect{}, api.ErrRange
+	}
 	m := api.Rect{X0: r.X0 + dx, Y0: r.Y0 + dy, X1: r.X1 + dx, Y1: r.Y1 + dy}
 	if !May(m) {
 		return api.Rect{}, api.ErrRange
 	}
 	return m, api.OK
 }
+
+// wraps tells whether the sum of both is no int.
+func wraps(a, b int) bool { return (a+b < a) != (b < 0) }
 
 // Scale is a rectangle so many times.
 func Scale(r api.Rect, n int) (api.Rect, api.Errno) {

@@ -265,6 +265,26 @@ func TestMoveByWhatWrapsRound(t *testing.T) {
 	}
 }
 
+// TestMoveOfWhatMayNotBe moves rectangles that are far out of bounds, and such of which one number alone wraps round.
+func TestMoveOfWhatMayNotBe(t *testing.T) {
+	lo, hi := math.MinInt, math.MaxInt
+	for _, x := range []struct {
+		r      api.Rect
+		dx, dy int
+	}{
+		{of(hi, 0, -hi, 0), hi, 0},
+		{of(hi, 0, lo, 0), lo, 0},
+		{of(0, hi, 0, -hi), 0, hi},
+		{of(0, hi, 0, lo), 0, lo},
+		{of(hi-1, 0, hi, 1), hi, 0},
+		{of(0, lo, 1, lo+1), 0, lo},
+	} {
+		if got, e := Move(x.r, x.dx, x.dy); got != (api.Rect{}) || e != api.ErrRange {
+			t.Errorf("Move(%v, %d, %d): %v %v", x.r, x.dx, x.dy, got, e)
+		}
+	}
+}
+
 func TestScale(t *testing.T) {
 	for _, x := range []struct {
 		r    api.Rect
